@@ -1,0 +1,1 @@
+"""Keptranges: kept answers of ranges."""
