@@ -90,3 +90,31 @@ class LanguageTest(unittest.TestCase):
                         self.assertNotIn(name, BUILTINS)
                 if isinstance(node, ast.Name) and node.id in BUILTINS:
                     self.assertIn(node.id, ALLOWED_BUILTINS, path)
+
+    def test_no_name_is_a_method_and_an_attribute(self):
+        methods, attributes = set(), set()
+        for path, tree in trees():
+            for node in ast.walk(tree):
+                if isinstance(node, ast.ClassDef):
+                    methods |= {part.name for part in node.body if isinstance(part, ast.FunctionDef)}
+                if isinstance(node, ast.Attribute) and isinstance(node.ctx, ast.Store):
+                    attributes.add(node.attr)
+        self.assertEqual(methods & attributes, set())
+
+    def test_imported_names_and_classes_keep_their_meaning(self):
+        for path, tree in trees():
+            fixed = {name.name for node in tree.body if isinstance(node, ast.ImportFrom) for name in node.names}
+            fixed |= {node.name for node in tree.body if isinstance(node, ast.ClassDef)}
+            for node in ast.walk(tree):
+                if isinstance(node, (ast.arg, ast.Name)):
+                    self.assertFalse(fixed & set(bound_names(node)), path)
+
+    def test_no_two_files_import_from_each_other(self):
+        above = {
+            path.stem: {node.module.split(".")[1] for node in tree.body if isinstance(node, ast.ImportFrom)}
+            for path, tree in trees()
+        }
+        while above:
+            free = {name for name, needed in above.items() if not needed & set(above)}
+            self.assertTrue(free, above)
+            above = {name: needed for name, needed in above.items() if name not in free}

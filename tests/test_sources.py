@@ -4,35 +4,13 @@ import unittest
 
 from keptranges.errors import NoClock, RangeError
 from keptranges.sources import Source
-from tests.helpers import kinds_told, plain_spread
+from tests.helpers import did, kinds_told, plain_spread, rows_in, stood
 
 ROWS = ((40, 4), (3, 0), (99, 9), (0, 1), (41, 5))
 STEPS = (
     ("put", 3, 7), ("put", 3, 7), ("put", 50, 2), ("drop", 40), ("drop", 40), ("drop", 60),
     ("put", 3, 0), ("put", 40, 4), ("drop", 0), ("put", 99, 0), ("put", 51, 1), ("drop", 51), ("put", 0, 0),
 )
-
-
-def did(source, step):
-    """Does one step, and tells what the method told."""
-    if step[0] == "put":
-        return source.put(step[1], step[2])
-    return source.drop(step[1])
-
-
-def stood(rows, steps):
-    """The worths by keys behind some steps, counted without the program."""
-    worths = dict(rows)
-    for step in steps:
-        if step[0] == "put":
-            worths[step[1]] = step[2]
-        elif step[1] in worths:
-            del worths[step[1]]
-    return worths
-
-
-def rows_in(worths, first, last):
-    return tuple((key, worths[key]) for key in sorted(worths) if first <= key < last)
 
 
 def made(rows=ROWS, steps=STEPS):
